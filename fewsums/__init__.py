@@ -1,0 +1,1 @@
+"""Fewsums: chains of numbers, each the sum of two earlier ones."""
